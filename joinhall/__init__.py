@@ -1,0 +1,1 @@
+"""Joinhall: patterns over tables, answered within told bounds."""
