@@ -71,8 +71,9 @@ class Checks(unittest.TestCase):
             self.assertIs(outcome(("a", 2, (row,))), CatalogueError)
 
     def test_other_shapes(self):
-        for table in ((), ("a",), ("a", 1), ("a", 1, (), ()), ("a", 1, (1,))):
-            self.assertIs(outcome(table), CatalogueError)
+        for table in ((), ("a",), ("a", 1), ("a", 1, (), ()), ("a", 1, (1,)), ("a", 1, (("1",),)),
+                      ("a", 1, "b"), ("a", "1", ()), (1, 1, ()), "abc"):
+            self.assertIs(outcome(table), CatalogueError, table)
 
     def test_every_table_counts(self):
         self.assertIs(outcome(("a", 1, ()), ("b", 2, ((1,),)), ("c", 1, ())), CatalogueError)
