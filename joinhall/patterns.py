@@ -1,7 +1,7 @@
 """Patterns: a head of variables over atoms."""
 
 from joinhall.catalogues import COLUMN_LIMIT, check_catalogue, table_of
-from joinhall.errors import PatternError, TooLarge
+from joinhall.errors import OrderError, PatternError, TooLarge
 from joinhall.names import is_name
 
 ATOM_LIMIT = 8
@@ -85,3 +85,9 @@ def is_full(pattern):
     check_pattern(pattern)
     # The head has different variables of the pattern, so their number decides.
     return len(pattern[0]) == len(occurring(pattern[1]))
+
+
+def check_order(pattern, order):
+    """Return None, or raise OrderError if an order does not have each variable once."""
+    if sorted(order) != sorted(occurring(pattern[1])):
+        raise OrderError("the order does not have each variable of the pattern once")

@@ -2,7 +2,9 @@ import itertools
 import random
 import unittest
 
-from helper import BAD_CATALOGUE, BAD_PATTERN, LARGE_CATALOGUE, LARGE_PATTERN, error_of, is_plain, table_with
+from helper import (
+    BAD_CATALOGUE, BAD_PATTERN, LARGE_CATALOGUE, LARGE_PATTERN, error_of, is_plain, random_case, table_with,
+)
 from joinhall.errors import CatalogueError, PatternError, TooLarge, UnknownTable
 from joinhall.meaning import plain_answers
 from joinhall.patterns import variables_of
@@ -32,22 +34,6 @@ def answers_by_trying(catalogue, pattern):
         if all(tuple(given[name] for name in names) in tables[table] for table, names in atoms):
             found.add(tuple(given[name] for name in head))
     return tuple(sorted(found))
-
-
-def random_case(dice):
-    """Return a small catalogue and a pattern that fits it."""
-    catalogue = []
-    for name in ("a", "b", "c")[:dice.randint(1, 3)]:
-        columns = dice.randint(1, 4)
-        rows = {tuple(dice.randint(-1, 2) for _ in range(columns)) for _ in range(dice.randint(0, 12))}
-        catalogue.append((name, columns, tuple(sorted(rows))))
-    atoms = []
-    for _ in range(dice.randint(1, 5)):
-        name, columns, rows = dice.choice(catalogue)
-        atoms.append((name, tuple(dice.choice("stuvw") for _ in range(columns))))
-    variables = sorted({variable for name, names in atoms for variable in names})
-    head = dice.sample(variables, dice.randint(0, len(variables)))
-    return tuple(catalogue), (tuple(head), tuple(atoms))
 
 
 class Answers(unittest.TestCase):
