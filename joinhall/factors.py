@@ -4,20 +4,18 @@ from joinhall.bags import empty_bags
 from joinhall.errors import NoAnswer, PartsError, TooLarge
 from joinhall.joins import VISIT_LIMIT
 from joinhall.meaning import entries_at
-from joinhall.partials import Partials, count_partials, list_partials, short_order
+from joinhall.partials import count_partials, list_partials, relations_of, search_for
 from joinhall.parts import check_parts, order_of
 from joinhall.patterns import check_fit
 
 
-def bag_rows(catalogue, pattern, variables):
+def bag_rows(relations, variables):
     """Return the partial answers for some variables, in their order, ascending."""
-    order = short_order(pattern, variables)
-    search = Partials(catalogue, pattern, order)
+    search = search_for(relations, variables)
     # They are counted first: there may be far too many to list them.
     if count_partials(search) > VISIT_LIMIT:
         raise TooLarge("a part has too many partial answers")
-    places = [order.index(variable) for variable in variables]
-    return sorted([entries_at(row, places) for row in list_partials(search, len(order))])
+    return list_partials(search, variables)
 
 
 class Factors:
@@ -29,8 +27,9 @@ class Factors:
             raise PartsError("the parts are not right for the pattern")
         self._order = order_of(parts)
         self._bags = empty_bags(parts, self._order)
+        relations = relations_of(catalogue, pattern)
         for bag in reversed(self._bags):
-            bag.fill(bag_rows(catalogue, pattern, bag.variables), [self._bags[at] for at in bag.below])
+            bag.fill(bag_rows(relations, bag.variables), [self._bags[at] for at in bag.below])
 
     @property
     def order(self):

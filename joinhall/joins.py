@@ -4,7 +4,7 @@ from itertools import permutations
 
 from joinhall.errors import TooLarge
 from joinhall.meaning import entries_at
-from joinhall.partials import Partials, count_partials, short_order
+from joinhall.partials import Partials, count_partials, relations_of, search_for
 from joinhall.patterns import check_fit, check_order, occurring
 
 VISIT_LIMIT = 20000
@@ -26,7 +26,7 @@ def join(catalogue, pattern, order):
     first variables there are, for each number of them."""
     check_fit(catalogue, pattern)
     check_order(pattern, order)
-    search = Partials(catalogue, pattern, order)
+    search = Partials(relations_of(catalogue, pattern), order)
     rows = search.start()
     visits = []
     for _ in order:
@@ -54,10 +54,10 @@ def groups_of(variables):
 
 def counts_by_group(catalogue, pattern, variables):
     """Return the number of partial answers for each group of the variables."""
+    relations = relations_of(catalogue, pattern)
     counts = {}
     for group in groups_of(variables):
-        search = Partials(catalogue, pattern, short_order(pattern, group))
-        counts[group] = count_partials(search)
+        counts[group] = count_partials(search_for(relations, group))
         if counts[group] > VISIT_LIMIT:
             raise TooLarge("there are too many partial answers")
     return counts

@@ -22,12 +22,12 @@ def rank(atoms, taken, rest, variable):
     return (alone, len(open_ones(atoms, [*taken, variable], later)), variable)
 
 
-def short_order(pattern, variables):
+def short_order(atoms, variables):
     """Return the variables in an order in which few earlier ones matter to later ones."""
     taken = []
     rest = list(variables)
     while len(rest) > 0:
-        chosen = min([rank(pattern[1], taken, rest, variable) for variable in rest])[2]
+        chosen = min([rank(atoms, taken, rest, variable) for variable in rest])[2]
         taken.append(chosen)
         rest.remove(chosen)
     return tuple(taken)
@@ -39,35 +39,39 @@ def fitting_rows(catalogue, atom):
     return [row for row in table_of(catalogue, name)[2] if repeats_agree(row, variables)]
 
 
-class Partials:
-    """The partial answers of a pattern for some variables, one variable after another."""
+def relations_of(catalogue, pattern):
+    """Return for each atom the pair of the rows that fit it and of its variables."""
+    return [(fitting_rows(catalogue, atom), atom[1]) for atom in pattern[1]]
 
-    def __init__(self, catalogue, pattern, variables):
-        self._size = len(variables)
-        self._possible = True
-        # For each variable the tries of the atoms that have it, each one with the places
-        # of the earlier variables that its atom has: they are the prefix to look under.
+
+class Partials:
+    """The partial answers for some variables, one variable after another. In place of atoms
+    there are relations: pairs of the rows that fit and of the variables at their places."""
+
+    def __init__(self, relations, variables):
+        self.variables = variables
+        self._possible = all([len(rows) > 0 for rows, _ in relations])
+        # For each variable the tries of the relations that have it, each one with the places
+        # of the earlier variables that this relation has: they are the prefix to look under.
         self._probes = [[] for _ in variables]
-        for atom in pattern[1]:
-            rows = fitting_rows(catalogue, atom)
-            self._possible = self._possible and len(rows) > 0
-            self.add_probes(rows, atom[1], variables)
-        self._near = [self.places_beside(at) for at in range(self._size)]
-        self._open = [self.open_places(at) for at in range(self._size)]
+        for rows, own in relations:
+            self.add_probes(rows, own)
+        self._near = [self.places_beside(at) for at in range(len(variables))]
+        self._open = [self.open_places(at) for at in range(len(variables))]
         self._followers = {}
         self._ways = {}
 
-    def add_probes(self, rows, own, variables):
-        """Put in the trie of an atom with its own variables, where it has some of these."""
-        shared = [place for place, variable in enumerate(variables) if variable in own]
+    def add_probes(self, rows, own):
+        """Put in the trie of a relation with its own variables, where it has some of these."""
+        shared = [place for place, variable in enumerate(self.variables) if variable in own]
         if len(shared) == 0:
             return
-        trie = Trie(rows, tuple([own.index(variables[place]) for place in shared]))
+        trie = Trie(rows, tuple([own.index(self.variables[place]) for place in shared]))
         for at, place in enumerate(shared):
             self._probes[place].append((trie, shared[:at]))
 
     def places_beside(self, at):
-        """Return the places of the earlier variables that stand beside one in an atom."""
+        """Return the places of the earlier variables that stand beside one in a relation."""
         return sorted(set([place for _, places in self._probes[at] for place in places]))
 
     def open_places(self, at):
@@ -94,7 +98,7 @@ class Partials:
     def ways(self, partial):
         """Return how many partial answers for all the variables begin with one."""
         at = len(partial)
-        if at == self._size:
+        if at == len(self.variables):
             return 1
         # Partial answers that agree where later variables look go on in the same ways.
         key = (at, entries_at(partial, self._open[at]))
@@ -103,15 +107,36 @@ class Partials:
         return self._ways[key]
 
 
+def search_for(relations, variables):
+    """Return a search of the partial answers for some variables, in a short order of them."""
+    return Partials(relations, short_order(relations, variables))
+
+
 def count_partials(search):
     """Return how many partial answers for all its variables a search finds."""
     return sum([search.ways(partial) for partial in search.start()])
 
 
-def list_partials(search, size):
-    """Return the partial answers that a search finds for all its variables, a number of them."""
+def going_on(search, partials):
+    """Return those partial answers, one integer longer than some, that lead to whole ones."""
+    return [row for partial in partials for row in search.longer(partial) if search.ways(row) > 0]
+
+
+def list_partials(search, variables):
+    """Return the partial answers that a search finds for all its variables, as tuples in
+    this order of them, ascending."""
     found = search.start()
-    for _ in range(size):
+    for _ in search.variables:
         # Those without a way on are left out at once: there may be far more of them.
-        found = [row for partial in found for row in search.longer(partial) if search.ways(row) > 0]
-    return found
+        found = going_on(search, found)
+    places = [search.variables.index(variable) for variable in variables]
+    return sorted([entries_at(row, places) for row in found])
+
+
+def least_partial(search):
+    """Return the least partial answer that a search finds for all its variables, None if
+    there is none."""
+    found = search.start()
+    for _ in search.variables:
+        found = going_on(search, found)[:1]
+    return found[0] if len(found) > 0 else None

@@ -66,25 +66,26 @@ def bag_of(links, gone, variable):
     return tuple(sorted([other for other in found if other not in gone]))
 
 
-def with_one_more(links, best):
+def with_one_more(links, best, grown):
     """Return, for each set of variables with one more than those in `best`, the least pair
-    (width, order) of all orders of taking them out."""
+    (cost, order) of all orders of taking them out."""
     found = {}
-    for gone, (width, order) in best.items():
+    for gone, (cost, order) in best.items():
         for variable in links:
             if variable not in gone:
                 key = tuple(sorted(gone + (variable,)))
-                rank = (max(width, len(bag_of(links, gone, variable))), order + (variable,))
+                rank = (grown(cost, bag_of(links, gone, variable)), order + (variable,))
                 found[key] = min(rank, found.get(key, rank))
     return found
 
 
-def best_order(links):
-    """Return an order of taking out all variables that has the least width."""
+def best_order(links, grown):
+    """Return an order of taking out all variables that has the least cost, where `grown` tells
+    what a cost is with one bag more."""
     # Which bags come later depends on what is gone, but not on the order in which it went.
     best = {(): (0, ())}
     for _ in links:
-        best = with_one_more(links, best)
+        best = with_one_more(links, best, grown)
     return best[tuple(sorted(links))][1]
 
 
@@ -104,11 +105,8 @@ def put_bag(parts, homes, bag, variable, later):
         parts.append((bag, above))
 
 
-def least_parts(pattern):
-    """Return a right tree of parts with the least width."""
-    check_pattern(pattern)
-    links = links_of(pattern[1])
-    order = best_order(links)
+def parts_along(links, order):
+    """Return a right tree of parts with the bags that an order of taking out makes."""
     parts = []
     homes = {}
     # The one taken out last comes first, so that the parts above are there already.
@@ -116,6 +114,18 @@ def least_parts(pattern):
         bag = bag_of(links, order[:at], order[at])
         put_bag(parts, homes, bag, order[at], order[at + 1:])
     return tuple(parts)
+
+
+def wider(width, bag):
+    """Return the greater one of a width and the number of variables of a bag."""
+    return max(width, len(bag))
+
+
+def least_parts(pattern):
+    """Return a right tree of parts with the least width."""
+    check_pattern(pattern)
+    links = links_of(pattern[1])
+    return parts_along(links, best_order(links, wider))
 
 
 def least_width(pattern):

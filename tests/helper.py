@@ -45,6 +45,27 @@ def random_case(dice):
     return tuple(catalogue), (tuple(head), tuple(atoms))
 
 
+def three_tables(dice):
+    """Return a catalogue with the tables of which patterns are drawn by `three_pattern`."""
+    tables = []
+    for name, size in (("e", 2), ("on", 1), ("three", 3)):
+        rows = {tuple(dice.randint(0, 2) for _ in range(size)) for _ in range(dice.randint(1, 12))}
+        tables.append((name, size, tuple(sorted(rows))))
+    return tuple(tables)
+
+
+def three_pattern(dice, most, heads):
+    """Return a pattern of up to so many atoms, with a head of up to so many variables. It has
+    few variables and tables, so that as a rule some atoms can become others."""
+    names = "uvwxy"[:dice.randint(1, 5)]
+    atoms = []
+    for _ in range(dice.randint(1, most)):
+        name, size = dice.choice((("e", 2), ("e", 2), ("e", 2), ("on", 1), ("three", 3)))
+        atoms.append((name, tuple(dice.choice(names) for _ in range(size))))
+    variables = variables_in((None, atoms))
+    return (tuple(dice.sample(variables, min(len(variables), dice.randint(0, heads)))), tuple(atoms))
+
+
 def variables_in(pattern):
     """Return the variables of a pattern, ascending."""
     return tuple(sorted({variable for name, variables in pattern[1] for variable in variables}))
@@ -70,6 +91,31 @@ def partials_by_trying(catalogue, pattern, order):
                 level.append(entries)
         found.append(level)
     return found
+
+
+def assignments_by_trying(catalogue, pattern):
+    """Return all fitting assignments, as dicts, found by trying all rows for each atom."""
+    tables = {name: rows for name, columns, rows in catalogue}
+    found = [{}]
+    for name, variables in pattern[1]:
+        found = [dict(given, **dict(zip(variables, row)))
+                 for given in found for row in tables[name] if fits(row, variables, given)]
+    return found
+
+
+def explained_by_trying(catalogue, pattern):
+    """Return a dict that has for each answer the lists of the facts, atom by atom, of all
+    fitting assignments that give it."""
+    found = {}
+    for given in assignments_by_trying(catalogue, pattern):
+        facts = [(name, tuple(given[one] for one in variables)) for name, variables in pattern[1]]
+        found.setdefault(tuple(given[one] for one in pattern[0]), []).append(facts)
+    return found
+
+
+def facts_in(catalogue):
+    """Return all facts of a catalogue, ascending."""
+    return [(name, row) for name, columns, rows in catalogue for row in rows]
 
 
 def circle(size, table="e"):

@@ -94,6 +94,8 @@ class Language(unittest.TestCase):
             for node in tree.body:
                 if isinstance(node, ast.ImportFrom):
                     known.extend(alias.name for alias in node.names)
+            # What a function is passed may be a function.
+            known.extend(argument.arg for node in functions(tree) for argument in node.args.args)
             for node in ast.walk(tree):
                 if isinstance(node, ast.Call) and isinstance(node.func, ast.Name):
                     self.assertIn(node.func.id, known + BUILTINS, path)
