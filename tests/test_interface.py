@@ -29,6 +29,18 @@ INTERFACE = {
     },
     "parts": {"check_parts": "pattern parts", "width_of": "parts", "order_of": "parts"},
     "widths": {"atom_tree": "pattern", "least_parts": "pattern", "least_width": "pattern"},
+    "arithmetics": {"add_ways": "p q", "multiply_ways": "p q", "turned": "p weights arithmetic"},
+    "totals": {
+        "totals": "catalogue weights pattern arithmetic", "whole_total": "catalogue weights pattern arithmetic",
+    },
+    "reasons": {
+        "witnesses": "catalogue pattern answer", "least_witness": "catalogue pattern answer",
+        "least_cut": "catalogue pattern answer", "needed": "catalogue pattern answer",
+        "check_cut": "catalogue pattern answer facts",
+    },
+    "maps": {"find_map": "P R", "check_map": "P R pairs", "case_of": "pattern", "contained": "R P"},
+    "cores": {"core_of": "pattern", "alike": "P R"},
+    "journals": {"replay": "text", "replay_whole_lines": "text"},
 }
 CLASSES = {
     ("tries", "Trie"): {"__init__": "rows positions", "count": "", "children": "prefix", "has": "prefix"},
@@ -40,12 +52,17 @@ CLASSES = {
         "__init__": "catalogue pattern parts", "count": "", "answer": "k", "number": "row", "rows": "",
         "begins": "prefix", "next_ones": "prefix", "levels": "",
     },
+    ("keeping", "Keeper"): {
+        "__init__": "catalogue", "stand": "name pattern", "fall": "name", "answers": "name", "ways": "name answer",
+        "add": "table row", "drop": "table row",
+    },
 }
-PROPERTIES = {("factors", "Factors"): ["order"]}
+PROPERTIES = {("factors", "Factors"): ["order"], ("keeping", "Keeper"): ["catalogue", "names", "log"]}
 CONSTANTS = {
     "catalogues": {"TABLE_LIMIT": 8, "ROW_LIMIT": 300, "COLUMN_LIMIT": 4},
     "patterns": {"ATOM_LIMIT": 8, "VARIABLE_LIMIT": 8},
     "joins": {"VISIT_LIMIT": 20000},
+    "keeping": {"STANDING_LIMIT": 8},
 }
 
 
