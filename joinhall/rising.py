@@ -12,6 +12,9 @@ PAIR_LIMIT = 2000
 class Amount:
     """The plus of values that come one by one. A polynomial may not have too many pairs."""
 
+    # On the way up a tree it may not, either: each row there is part of a fitting assignment,
+    # so that the result has at least as many pairs as what is added up or multiplied before.
+
     def __init__(self, scale):
         self._scale = scale
         self._value = scale.plus([])
